@@ -1,0 +1,1 @@
+"""Allislands: marks that spread and die on an endless board."""

@@ -1,0 +1,51 @@
+"""Bars: the least sets of places that keep a mark away where none of them is marked."""
+
+from allislands.checks import are_places, is_tuple_of
+from allislands.errors import BadBars
+from allislands.needs import MOST_NEAR, MOST_NEEDS, bars_of, is_need, least_needs
+from allislands.rules import need_rule
+
+
+def bars(rule):
+    """The ascending tuple of all bars of a rule."""
+    need_rule(rule)
+    return bars_of(rule)
+
+
+def turned_about(rule):
+    """The rule whose needs are the bars of the rule."""
+    need_rule(rule)
+    return bars_of(rule)
+
+
+def need_sets(sets):
+    """A tuple of 1 to 60 sets of the form of needs, in any order."""
+    if not is_tuple_of(sets, 1, MOST_NEEDS):
+        raise BadBars(())
+    for at, places in enumerate(sets):
+        if not is_need(places):
+            raise BadBars((at,))
+    return sets
+
+
+def rule_from_bars(sets):
+    """The rule of which the least ones of the sets are the bars."""
+    need_sets(sets)
+    # A rule turned about twice is as it was: its needs are the bars of its bars.
+    return bars_of(least_needs(sets))
+
+
+def is_bar(rule, value):
+    """Whether a value is a bar of the rule."""
+    need_rule(rule)
+    if not isinstance(value, tuple) or not are_places(value, MOST_NEAR):
+        return False
+    # A place of the value is needed only if some need has no other place of it.
+    alone = {}
+    for need in rule:
+        met = [place for place in need if place in value]
+        if len(met) == 0:
+            return False
+        if len(met) == 1:
+            alone[met[0]] = True
+    return len(alone) == len(value)
