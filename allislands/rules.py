@@ -3,9 +3,8 @@
 from allislands.checks import is_tuple_of, need_number
 from allislands.errors import BadRule, NoRow
 from allislands.islands import all_moved, is_island, let_places, need_island
-from allislands.needs import (
-    MOST_NEEDS, behind_needs, both_needs, either_needs, has_one_of, is_need, least_needs, lone_needs,
-    masks_of, parting_need, power_needs)
+from allislands.needs import MOST_NEEDS, has_one_of, is_need, least_needs, lone_needs, masks_of, parting_need
+from allislands.needs import behind_needs, both_needs, either_needs, power_needs
 from allislands.places import need_place
 
 MOST_STEPS = 60
