@@ -3,17 +3,25 @@
 from allislands.errors import BadParameter
 
 
+def is_integer(value):
+    """Whether a value is an integer of any size."""
+    # Python takes True and False for integers, the document does not.
+    return isinstance(value, int) and not isinstance(value, bool)
+
+
 def is_number(value, least, most):
     """Whether a value is an integer from least to most."""
-    # Python takes True and False for integers, the document does not.
-    return isinstance(value, int) and not isinstance(value, bool) and least <= value <= most
+    return is_integer(value) and least <= value <= most
+
+
+def are_two(value):
+    """Whether a value is a tuple of two things."""
+    return isinstance(value, tuple) and len(value) == 2
 
 
 def is_pair(value, size):
     """Whether a value is a pair of integers from -size to size."""
-    if not isinstance(value, tuple) or len(value) != 2:
-        return False
-    return is_number(value[0], -size, size) and is_number(value[1], -size, size)
+    return are_two(value) and is_number(value[0], -size, size) and is_number(value[1], -size, size)
 
 
 def is_ascending(things):

@@ -41,6 +41,11 @@ def all_common(one, other):
     return tuple(sorted(set(one) & set(other)))
 
 
+def reach_of(places, direction):
+    """The greatest <U, P> of some places P, of which there must be one."""
+    return max([inner(direction, place) for place in places])
+
+
 def shifted(island, place):
     """The island moved by the place."""
     need_island(island)
@@ -91,4 +96,4 @@ def reach(island, direction):
     need_direction(direction)
     if len(island) == 0:
         raise NoRow()
-    return max([inner(direction, place) for place in island])
+    return reach_of(island, direction)

@@ -66,6 +66,11 @@ def made_plain(direction):
     return (direction[0] // most, direction[1] // most)
 
 
+def is_plain(direction):
+    """Whether the numbers of any pair of integers have no common divisor but 1."""
+    return gcd(direction[0], direction[1]) == 1
+
+
 def least_direction(direction):
     """The plain direction that leads the same way."""
     need_direction(direction)
@@ -83,22 +88,54 @@ def is_first_half(direction):
     return direction[1] > 0 or (direction[1] == 0 and direction[0] > 0)
 
 
+def crossed(one, other):
+    """A * D - B * C of the pairs (A, B), (C, D): above 0 if the way from one to other is to the left."""
+    return one[0] * other[1] - one[1] * other[0]
+
+
 def comes_before(one, other):
     """Whether one meets `one` ahead of `other` on the round from (1, 0) to the left."""
     if is_first_half(one) != is_first_half(other):
         return is_first_half(one)
-    return one[0] * other[1] - one[1] * other[0] > 0
+    return crossed(one, other) > 0
+
+
+def how_many_before(direction, ordered):
+    """How many of some directions, which stand in their order, come before a direction."""
+    least, most = 0, len(ordered)
+    while least < most:
+        at = (least + most) // 2
+        if comes_before(ordered[at], direction):
+            least = at + 1
+        else:
+            most = at
+    return least
 
 
 def put_in_order(directions):
     """Any plain directions, each once, as a list in the order of directions."""
     ordered = []
     for direction in sorted(set(directions)):
-        at = len(ordered)
-        while at > 0 and comes_before(direction, ordered[at - 1]):
-            at -= 1
-        ordered.insert(at, direction)
+        ordered.insert(how_many_before(direction, ordered), direction)
     return ordered
+
+
+def are_in_order(directions):
+    """Whether each of some directions comes before the next one."""
+    for at in range(1, len(directions)):
+        if not comes_before(directions[at - 1], directions[at]):
+            return False
+    return True
+
+
+def is_round(directions):
+    """Whether of some directions in their order each is less than half a round ahead of the next
+    one, the last one of the first one: so no half plane through (0, 0) holds them all.
+    """
+    for at, direction in enumerate(directions):
+        if crossed(directions[at - 1], direction) <= 0:
+            return False
+    return len(directions) > 0
 
 
 def in_order(directions):

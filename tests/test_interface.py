@@ -18,6 +18,28 @@ FILES = {
     "termwork": """term_rule(term) plain_term(rule) term_stepped(term, island) terms_alike(one, other)
         terms_parted(one, other)""",
     "speeds": "speed(rule, direction) term_speed(term, direction) half_stepped(rule, direction, number)",
+    "fans": """need_fan(fan) need_whole(fan) fan_value(fan, direction) forms(fan) fan_of(rule) fan_of_term(term)
+        fan_most(one, other) fan_least(one, other) fan_sum(one, other) fan_turned(fan) fan_times(fan, times)
+        fan_moved(fan, place) never_faster(one, other) faster_at(one, other)""",
+    "made": """is_whole(fan) refined(fan) fan_rule(fan) core_fan(points) core_rule(points)
+        is_core_rule(points, value)""",
+    "cores": """need_point(value) core(rule) term_core(term) fan_core(fan) in_core(rule, point) is_empty(rule)
+        core_sides(rule) core_widths(rule, direction) core_area(rule) common_core(one, other)""",
+    "dooms": """doom_of(rule) is_doom(rule, value) held_by(rule, island, doom, steps) gone_by(rule, island, doom)
+        last_step(rule, width, height) all_within(rule, width, height, steps)""",
+    "living": """ring_of(rule, point) is_ring(rule, point, value) living_size(rule, point, ring)
+        frame_corners(frame, size) living_island(frame, size) living_at(frame, size, point, times)
+        holds_moved(rule, island, place)""",
+    "forall": """sides(rule, island) reach_after(rule, island, direction, steps)
+        width_after(rule, island, direction, steps) after(rule, island, steps) empty_from(rule, island)
+        covers_all(rule) kept_after(rule, point, ring, size, steps)
+        is_kept(rule, point, ring, size, steps, place)""",
+    "stairs": """need_stair(value) stair_of(corners) stair_holds(u, v, stair, place) stair_moved(u, v, stair, place)
+        stair_joined(one, other) stair_common(one, other) stair_stepped(rule, u, v, stair)
+        stair_steps(rule, u, v, stair, times) is_corner_kept(rule, u, v) corner_after(rule, u, v, times)
+        corner_island(u, v, stair, size)""",
+    "staying": """is_staying(rule) standing(rule) hold_of(rule) is_hold(rule, value) held(rule, island, hold)
+        spreads_to(rule) filled(rule, island) is_filled(rule, island)""",
 }
 
 

@@ -8,21 +8,12 @@ from allislands.places import in_half
 from allislands.rules import behind, both_marked, either_marked, moved_by
 from allislands.speeds import half_stepped, speed, term_speed
 from allislands.termwork import term_rule
-from tests.tools import LEFT, TWO, Case, drawings, drawn_places, drawn_rule, drawn_term, how_many, outcome
+from tests.tools import FAR, LEFT, MOST, TWO, Case, drawings, drawn_places, drawn_rule, drawn_term, drawn_way
+from tests.tools import how_many, outcome, plain_speed
 
 AT = ("at", (0, 0))
-FAR = 10 ** 6
-MOST = 10 ** 60
 REFUSED = (TooGreat, {"most": 60})
 TWO_TERM = ("rank", 2, ((0, 0), (0, 1), (1, 0)))
-
-
-def plain_speed(rule, u):
-    return max(min(-u[0] * x - u[1] * y for x, y in need) for need in rule)
-
-
-def drawn_way(draw, size=4):
-    return (draw.randint(-size, size), draw.choice((-1, 1)) * draw.randint(1, size))
 
 
 class Speed(Case):
