@@ -80,7 +80,8 @@ def forms_behind(fan, directions):
     own = directions_of(fan)
     forms = whole_forms(fan)
     found = []
-    at = -1
+    # The first direction of each fan is (1, 0).
+    at = 0
     for direction in directions:
         if at + 1 < len(own) and own[at + 1] == direction:
             at += 1

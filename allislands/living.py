@@ -4,7 +4,7 @@ from allislands.broken import lowest, rounded_up
 from allislands.checks import are_two, is_integer, is_tuple_of, need_number
 from allislands.cores import need_point
 from allislands.errors import BadParameter, NoRow, TooGreat
-from allislands.fanwork import AXES, neighbours
+from allislands.fanwork import neighbours
 from allislands.islands import MOST_PLACES, all_moved, need_island
 from allislands.places import are_in_order, inner, is_plain, is_round, made_plain, need_place, put_in_order
 from allislands.rules import fits, need_rule
@@ -12,7 +12,8 @@ from allislands.rules import fits, need_rule
 MOST_IN_FRAME = 400
 MOST_SIZE = 10 ** 9
 MOST_TIMES = 10 ** 30
-# The point and the times that leave a polygon where it is.
+MOST_SMALL = 2
+# The point that moves nothing.
 STILL = (0, 0, 1)
 
 
@@ -109,15 +110,21 @@ def thinned(directions, masks):
     return tuple(kept)
 
 
+def small_directions():
+    """All plain directions with small numbers."""
+    numbers = range(-MOST_SMALL, MOST_SMALL + 1)
+    return [(across, up) for across in numbers for up in numbers if is_plain((across, up))]
+
+
 def ring_of(rule, point):
     """A ring of a rule at a point."""
     need_rule(rule)
     need_point(point)
     groups = groups_of(rule, point)
-    found = list(AXES)
+    found = small_directions()
     for ways in groups:
         found += ends_of(ways)
-    # Between these directions no need begins or ends to be led: at most 4 of each need, and the axes.
+    # Between these directions no need begins or ends to be led: at most 4 of each need, and the small ones.
     directions = put_in_order(found)
     masks = led_masks(directions, groups)
     if not goes_on(masks):

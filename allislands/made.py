@@ -109,11 +109,12 @@ def side_direction(one, other):
 
 
 def sides_of(points):
-    """The pairs (U, x) of the directions of the sides and the corners at which they begin."""
+    """The pairs (U, x) of the directions of the sides and the corners at which they begin; a stretch is
+    told there and back.
+    """
     if len(points) < 2:
         return []
-    found = [(side_direction(one, other), one) for one, other in neighbours(points)]
-    return found[:1] if len(points) == 2 else found
+    return [(side_direction(one, other), one) for one, other in neighbours(points)]
 
 
 def weights(direction):

@@ -89,8 +89,7 @@ def corners_of(sides):
     numbers = {direction: number for direction, number in sides}
     left, low = -numbers[(-1, 0)], -numbers[(0, -1)]
     right, high = numbers[(1, 0)], numbers[(0, 1)]
-    if left > right or low > high:
-        return ()
+    # If left is beyond right, or low above high, then nothing is left of these behind the cuts.
     polygon = each_once([(left, low, 1), (right, low, 1), (right, high, 1), (left, high, 1)])
     for side in sides:
         polygon = cut(polygon, side)
@@ -104,10 +103,10 @@ def are_corners(points):
     for at in range(1, len(points)):
         if not is_lesser_point(points[0], points[at]):
             return False
-    # Seen from the first one each other one lies further to the left, so they go round once.
     for at in range(2, len(points)):
+        # Seen from the first one each next one must lie further to the left: so they go round once.
         if turn(points[0], points[at - 1], points[at]) <= 0:
             return False
         if turn(points[at - 2], points[at - 1], points[at]) <= 0:
             return False
-    return len(points) < 3 or turn(points[-2], points[-1], points[0]) > 0
+    return True

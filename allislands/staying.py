@@ -52,8 +52,8 @@ def round_of(directions):
     first = directions[0]
     ahead = [direction for direction in directions if crossed(first, direction) > 0]
     behind = directions[len(ahead) + 1:]
-    # The one right opposite is not yet less than half a round ahead of the first one.
-    return [first, ahead[-1]] + behind[:2 if crossed(behind[0], first) == 0 else 1]
+    # The next one may be right opposite the first one, then it needs the one behind it, too.
+    return [first, ahead[-1]] + behind[:2]
 
 
 def hold_of(rule):

@@ -79,7 +79,9 @@ class Dooms(Case):
         self.assertGreater(done, 100)
 
     def test_values_of_any_kind(self):
-        wrong = [(), TWO_DOOM[:1], TWO_DOOM[:2], TWO_DOOM + ((0, 1),), TWO_DOOM + TWO_DOOM[:0] + ((1, 0), (-1, 0)),
+        four = ((2, 2), (-2, 0), (0, -1), (0, -1))
+        self.assertEqual((sum_of(four), sum(plain_speed(TWO, u) for u in four)), ((0, 0), -2))
+        wrong = [four, (), TWO_DOOM[:1], TWO_DOOM[:2], TWO_DOOM + ((0, 1),), TWO_DOOM + TWO_DOOM[:0] + ((1, 0), (-1, 0)),
                  list(TWO_DOOM), ([1, 1], (-1, 0), (0, -1)), ((1, 1), (-1, 0), (0, -1), (0, 0)), ((1, 1), (-1, -1)),
                  ((0, 0), (1, 1), (-1, -1)), ((1, 1), (-1, 0), (0, True)), ((1, 1), (-1, 0), (0, -1.0)),
                  ((FAR + 1, FAR + 1), (-FAR - 1, 0), (0, -FAR - 1)), ((1, 1), (-1, 0), (0, -2)), ((1, 1), (-2, 0), (0, -1)),

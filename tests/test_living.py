@@ -104,8 +104,8 @@ class Rings(Case):
 
     def test_a_ring_exactly_in_the_core(self):
         kinds, sizes = set(), set()
-        for draw in drawings(200, 120):
-            rule = drawn_rule(draw, 5, 3, 2)
+        for draw in drawings(300, 120):
+            rule = drawn_rule(draw, 5, 3, draw.choice((2, 7, 20)))
             fan = plain_fan(rule)
             for point in list(plain_corners(fan)) + [drawn_point(draw, 2, 3) for _ in range(5)]:
                 x, y = fraction_point(point)

@@ -262,6 +262,11 @@ class CoreFan(Case):
                 self.refused(TooGreat(60), core_rule, points)
         self.assertEqual(kinds, {True, False})
         self.refused(TooGreat(60), core_fan, ((1, MOST - 1, MOST),))
+        # 59, 60 and 61 directions stand.
+        for point in ((9, 1, 12), (10, 1, 12)):
+            self.assertEqual(core_fan((point,)), plain_core_fan((point,)))
+        self.assertIsNone(plain_core_fan(((11, 1, 12),)))
+        self.refused(TooGreat(60), core_fan, ((11, 1, 12),))
 
     def test_great_numbers(self):
         points = ((-MOST, -MOST, 1), (MOST, -MOST, 1), (0, MOST, 1))
@@ -314,9 +319,13 @@ class Corners(Case):
         wrong = [((1, 0, 1), (0, 0, 1)), ((0, 0, 1), (0, 0, 1)), ((0, 0, 1), (0, -1, 2)), ((1, 0, 2), (1, 0, 3))]
         wrong += [((0, 0, 1), (1, 0, 1), (2, 0, 1)), ((0, 0, 1), (1, 1, 1), (2, 2, 1)), ((0, 0, 1), (2, 0, 1), (1, 0, 1))]
         # One too many between neighbours, one that lies inside, one twice.
-        for at, extra in ((1, (1, 0, 2)), (2, (1, 1, 2)), (3, (1, 1, 2)), (4, (0, 1, 2)), (2, (1, 1, 3)), (4, (1, 1, 2))):
+        for at, extra in ((1, (1, 0, 2)), (2, (1, 1, 2)), (3, (1, 1, 2)), (4, (0, 1, 2)), (2, (1, 1, 3)), (4, (1, 1, 2)),
+                          (2, (2, 1, 2)), (3, (1, 2, 2)), (2, (1, 1, 3)), (2, (3, 1, 4)), (3, (1, 3, 4))):
             wrong.append(square[:at] + (extra,) + square[at:])
         wrong += [square[:k] + square[k - 1:] for k in (1, 2, 3, 4)] + [square * 2, square + square[:1]]
+        # One that lies inside, or on a side, and is seen in its turn from the first one.
+        wrong += [((0, 0, 1), (3, 0, 1), (1, 1, 1), (0, 3, 1)), ((0, 0, 1), (2, 0, 1), (1, 1, 1), (0, 2, 1))]
+        wrong += [((0, 0, 1), (3, -3, 1), (2, 0, 1), (3, 3, 1)), ((0, 0, 1), (3, -3, 1), (3, 0, 1), (3, 3, 1))]
         # Twice round a star.
         star = ((-3, -1, 1), (3, 0, 1), (-2, 2, 1), (0, -3, 1), (1, 3, 1))
         wrong += [star[k:] + star[:k] for k in range(5)] + [(star[0], star[3], star[1], star[4], star[2])[::-1]]
