@@ -80,15 +80,15 @@ def groups_of(rule, point):
     return [ways_along(point, need) for need in rule]
 
 
-def ends_of(ways):
-    """The first and the last direction by which some ways are led, their opposites besides."""
+def beginnings_of(ways):
+    """The first direction, going round to the left, by which some ways are led, and its opposite."""
     found = []
     for first, second in ways:
-        if (first, second) == (0, 0):
-            continue
-        across, up = made_plain((-second, first))
-        if is_led((across, up), ways) or is_led((-across, -up), ways):
-            found += [(across, up), (-across, -up)]
+        # A way is led by the directions from a quarter to three quarters of a round to its left.
+        if (first, second) != (0, 0):
+            across, up = made_plain((-second, first))
+            if is_led((across, up), ways):
+                found += [(across, up), (-across, -up)]
     return found
 
 
@@ -123,8 +123,9 @@ def ring_of(rule, point):
     groups = groups_of(rule, point)
     found = small_directions()
     for ways in groups:
-        found += ends_of(ways)
-    # Between these directions no need begins or ends to be led: at most 4 of each need, and the small ones.
+        found += beginnings_of(ways)
+    # Strictly between two of these no need begins to be led: what a direction shortly ahead of the second
+    # one leads, both of them lead. They are at most two of each need, and the small ones.
     directions = put_in_order(found)
     masks = led_masks(directions, groups)
     if not goes_on(masks):

@@ -134,10 +134,11 @@ def filled(rule, island):
     marked = {place: True for place in island}
     fresh = list(island)
     while len(fresh) > 0:
-        for place in newly_marked(rule, marked, fresh.pop()):
-            if place not in marked:
-                marked[place] = True
-                fresh.append(place)
+        place = fresh.pop()
+        for found in newly_marked(rule, marked, place):
+            if found not in marked:
+                marked[found] = True
+                fresh.append(found)
         let_places(marked)
     return tuple(sorted(marked))
 
