@@ -6,7 +6,7 @@ from allislands.checks import is_tuple_of, need_number
 from allislands.errors import BadParameter, NoRow, TooGreat
 from allislands.fanwork import directions_of, fan_of_needs, numbers_of
 from allislands.islands import box, let_places, need_island, reach_of
-from allislands.places import crossed, inner, is_direction
+from allislands.places import crossed, is_direction
 from allislands.polygons import corners_of
 from allislands.rules import MOST_STEPS, all_stepped, need_rule
 from allislands.speeds import speed_of

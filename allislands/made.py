@@ -10,7 +10,6 @@ from allislands.fanwork import made_fan, neighbours, whole_forms
 from allislands.needs import has_one_of, least_masks, needs_of
 from allislands.places import crossed, inner, made_plain, put_in_order
 from allislands.polygons import are_corners, inner_point
-from allislands.rules import need_rule
 
 MOST_REFINED = 400
 MOST_CORNERS = 12

@@ -1,6 +1,6 @@
 """Stairs: what finitely many corners mark, each the common part of two half planes."""
 
-from allislands.checks import are_two, is_pair, is_tuple_of, need_number
+from allislands.checks import is_pair, is_tuple_of, need_number
 from allislands.errors import BadStair, NoRow, TooGreat, Unlike
 from allislands.islands import let_places
 from allislands.places import MOST_NUMBER, crossed, inner, need_direction, need_place

@@ -6,10 +6,10 @@ from allislands.errors import BadFan, BadParameter, BadPlace, BadRule, NoRow, To
 from allislands.fans import faster_at, fan_least, fan_most, fan_moved, fan_of, fan_of_term, fan_sum, fan_times
 from allislands.fans import fan_turned, fan_value, need_whole, never_faster
 from allislands.rules import behind, both_marked, either_marked, is_lesser, moved_by
-from allislands.speeds import speed, term_speed
+from allislands.speeds import term_speed
 from tests.test_fans import HALF, LEFT_FAN, REFUSED, TWO_FAN, ZERO, bent
-from tests.tools import AXES, FAN_34, FAN_60, FAN_61, FAR, LEFT, MOST, ODD, OFTEN, STAY, TWO, Case, all_ways, changes
-from tests.tools import drawings, drawn_places, drawn_rule, drawn_way, fan_at, form, cones, in_turn, is_fan_shaped
+from tests.tools import AXES, FAN_34, FAN_60, FAN_61, LEFT, MOST, ODD, OFTEN, STAY, TWO, Case, all_ways
+from tests.tools import drawings, drawn_rule, fan_at, form, cones, in_turn, is_fan_shaped
 from tests.tools import outcome, plain, plain_fan, plain_speed, told_fan
 
 # Two ranks the sum of whose fans has more than 60 directions.

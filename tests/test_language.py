@@ -98,6 +98,18 @@ class Language(unittest.TestCase):
                 for alias in node.names:
                     self.assertIn(alias.name, defined[node.module.split(".")[1]], where)
 
+    def test_all_that_is_defined_or_imported_is_used(self):
+        used = {}
+        for name, tree in trees():
+            words = {node.id for node in ast.walk(tree) if isinstance(node, ast.Name) and isinstance(node.ctx, ast.Load)}
+            taken = {alias.name for node in tree.body if isinstance(node, ast.ImportFrom) for alias in node.names}
+            self.assertFalse(taken - words, name)
+            used[name] = words | taken
+        for name, tree in trees():
+            for node in tree.body:
+                if isinstance(node, ast.Assign):
+                    self.assertTrue(any(node.targets[0].id in words for words in used.values()), f"{name}:{node.lineno}")
+
     def test_statements(self):
         for where, node in self.each(ast.stmt):
             self.assertIsInstance(node, STATEMENTS, where)

@@ -13,7 +13,7 @@ from allislands.rules import moved_by, need_rule
 from tests.test_fans import HALF, LEFT_FAN, REFUSED, TWO_FAN, ZERO, bent, drawn_fan
 from tests.tools import AXES, FAN_60, FAN_61, FOUR, LEFT, MOST, ODD, STAY, TWO, TWO_OF_FOUR, Case, across, cones
 from tests.tools import all_ways, drawings, drawn_point, drawn_rule, fan_at, form, fraction_point, hull, in_turn, is_fan_shaped
-from tests.tools import least, outcome, plain, plain_corners, plain_fan, told_fan, told_point
+from tests.tools import outcome, plain, plain_corners, plain_fan, told_fan, told_point
 
 LONG = tuple((None,) for _ in range(61))
 
