@@ -1,8 +1,8 @@
 """Bars: the least sets of places that keep a mark away where none of them is marked."""
 
-from allislands.checks import are_places, is_tuple_of
+from allislands.checks import are_places
 from allislands.errors import BadBars
-from allislands.needs import MOST_NEAR, MOST_NEEDS, bars_of, is_need, least_needs
+from allislands.needs import MOST_NEAR, bars_of, fault_in_parts, is_need, least_needs
 from allislands.rules import need_rule
 
 
@@ -18,19 +18,11 @@ def turned_about(rule):
     return bars_of(rule)
 
 
-def need_sets(sets):
-    """A tuple of 1 to 60 sets of the form of needs, in any order."""
-    if not is_tuple_of(sets, 1, MOST_NEEDS):
-        raise BadBars(())
-    for at, places in enumerate(sets):
-        if not is_need(places):
-            raise BadBars((at,))
-    return sets
-
-
 def rule_from_bars(sets):
     """The rule of which the least ones of the sets are the bars."""
-    need_sets(sets)
+    fault = fault_in_parts(sets, is_need)
+    if fault is not None:
+        raise BadBars(fault)
     # A rule turned about twice is as it was: its needs are the bars of its bars.
     return bars_of(least_needs(sets))
 

@@ -108,15 +108,21 @@ def steps_to_below(number, speed):
     return number // -speed + 1
 
 
+def gone_with(island, doom, speed):
+    """The least number of steps at which half planes that hold an island have nothing in common; the
+    directions of the doom are theirs, the sum of their speeds is below 0.
+    """
+    if len(island) == 0:
+        return 0
+    return steps_to_below(sum([reach_of(island, direction) for direction in doom]), speed)
+
+
 def gone_by(rule, island, doom):
     """The least number of steps at which the half planes of the doom have nothing in common."""
     need_rule(rule)
     need_island(island)
     need_doom(rule, doom)
-    if len(island) == 0:
-        return 0
-    reached = sum([reach_of(island, direction) for direction in doom])
-    return steps_to_below(reached, sum_of_speeds(rule, doom))
+    return gone_with(island, doom, sum_of_speeds(rule, doom))
 
 
 def need_empty_core(rule):

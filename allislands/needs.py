@@ -23,6 +23,31 @@ def is_need(value):
     return is_tuple_of(value, 1, MOST_IN_NEED) and are_places(value, MOST_NEAR)
 
 
+def fault_in_parts(value, is_part):
+    """Where a value is no tuple of 1 to 60 such parts, None if it is one."""
+    if not is_tuple_of(value, 1, MOST_NEEDS):
+        return ()
+    for at, part in enumerate(value):
+        if not is_part(part):
+            return (at,)
+    return None
+
+
+def fault_in_rule(value, is_part):
+    """Where a value is not as a rule with such needs, None if it is one."""
+    fault = fault_in_parts(value, is_part)
+    if fault is not None:
+        return fault
+    for at in range(1, len(value)):
+        if value[at - 1] >= value[at]:
+            return (at,)
+    masks = masks_of(value, {})
+    for at, mask in enumerate(masks):
+        if has_one_of(mask, masks[:at] + masks[at + 1:]):
+            return (at,)
+    return None
+
+
 def mask_of(need, bits):
     """The number of a set of places; `bits` gives each place that is new to it the next bit."""
     mask = 0

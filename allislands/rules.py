@@ -1,41 +1,33 @@
 """Rules: how a step leads marks, and rules put together."""
 
-from allislands.checks import is_tuple_of, need_number
+from allislands.checks import need_number
 from allislands.errors import BadRule, NoRow
 from allislands.islands import all_moved, is_island, let_places, need_island
-from allislands.needs import MOST_NEEDS, has_one_of, is_need, least_needs, lone_needs, masks_of, parting_need
-from allislands.needs import behind_needs, both_needs, either_needs, power_needs
+from allislands.needs import behind_needs, both_needs, either_needs, fault_in_parts, fault_in_rule, is_need
+from allislands.needs import least_needs, lone_needs, parting_need, power_needs
 from allislands.places import need_place
 
 MOST_STEPS = 60
 
 
-def need_needs(needs):
-    """A tuple of 1 to 60 needs, in any order."""
-    if not is_tuple_of(needs, 1, MOST_NEEDS):
-        raise BadRule(())
-    for at, need in enumerate(needs):
-        if not is_need(need):
-            raise BadRule((at,))
-    return needs
-
-
 def need_rule(rule):
     """A rule, BadRule for anything else."""
-    need_needs(rule)
-    for at in range(1, len(rule)):
-        if rule[at - 1] >= rule[at]:
-            raise BadRule((at,))
-    masks = masks_of(rule, {})
-    for at, mask in enumerate(masks):
-        if has_one_of(mask, masks[:at] + masks[at + 1:]):
-            raise BadRule((at,))
+    fault = fault_in_rule(rule, is_need)
+    if fault is not None:
+        raise BadRule(fault)
     return rule
+
+
+def is_rule(value):
+    """Whether a value is a rule as parameters are."""
+    return fault_in_rule(value, is_need) is None
 
 
 def rule_of(needs):
     """The rule of the least ones of some needs."""
-    need_needs(needs)
+    fault = fault_in_parts(needs, is_need)
+    if fault is not None:
+        raise BadRule(fault)
     return least_needs(needs)
 
 

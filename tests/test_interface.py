@@ -38,6 +38,17 @@ FILES = {
         stair_joined(one, other) stair_common(one, other) stair_stepped(rule, u, v, stair)
         stair_steps(rule, u, v, stair, times) is_corner_kept(rule, u, v) corner_after(rule, u, v, times)
         corner_island(u, v, stair, size)""",
+    "rows": """need_row_rule(rowrule) row_rule(rule, direction) span(rowrule) row_speeds(rowrule) dies_out(rowrule)
+        same_speeds(one, other) need_row(row) row_holds(row, number) row_stepped(rowrule, row) is_long(rowrule, row)""",
+    "running": "run(rowrule, row, times) row_last(rowrule, wide)",
+    "orders": """word_stepped(rules, word, island) word_rule(rules, word) words_alike(rules, one, other)
+        word_speed(rules, word, direction, rounds) word_fan(rules, word) word_core(rules, word)
+        is_common_doom(rules, value) common_doom(rules, size) gone_in_any(rules, island, doom)
+        living_word(rules, length)""",
+    "levels": """need_picture(value) level_at(picture, place) is_flat(picture) marked_from(picture, level)
+        holes_below(picture, level) picture_turned(picture) picture_cut(picture, low, high) higher_of(one, other)
+        lower_of(one, other) level_stepped(rule, picture) level_steps(rule, picture, times) cleans(rule)
+        flat_by(rule, picture, doom, counter)""",
     "staying": """is_staying(rule) standing(rule) hold_of(rule) is_hold(rule, value) held(rule, island, hold)
         spreads_to(rule) filled(rule, island) is_filled(rule, island)""",
 }

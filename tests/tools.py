@@ -249,3 +249,37 @@ def plain_corners(pairs):
 def drawn_point(draw, size=3, parts=4):
     x, y = [Fraction(draw.randint(-size * parts, size * parts), draw.randint(1, parts)) for _ in range(2)]
     return told_point(x, y)
+
+
+def drawn_row_rule(draw, needs=4, numbers=3, size=4):
+    """A row rule of at most so many needs of at most so many numbers from -size to size."""
+    return least([tuple(sorted(draw.sample(range(-size, size + 1), draw.randint(1, numbers))))
+                  for _ in range(draw.randint(1, needs))])
+
+
+def drawn_row(draw, most=5, wide=5):
+    """A row of at most so many stretches, perhaps without an end."""
+    row, at = [], draw.randint(-9, 9)
+    for _ in range(draw.randint(0, most)):
+        last = at + draw.randint(0, wide)
+        row.append((at, last))
+        at = last + 2 + draw.randint(0, wide)
+    if row and draw.random() < 0.25:
+        row[0] = (None, row[0][1])
+    if row and draw.random() < 0.25:
+        row[-1] = (row[-1][0], None)
+    return tuple(row)
+
+
+def is_in_row(row, n):
+    return any((left is None or left <= n) and (right is None or n <= right) for left, right in row)
+
+
+def row_marks(row, window):
+    """The marked places of a window, as a set."""
+    return {n for n in window if is_in_row(row, n)}
+
+
+def row_step(rule, row, window):
+    """What a step marks of a window, by the document's words."""
+    return {n for n in window if any(all(is_in_row(row, n + a) for a in need) for need in rule)}
