@@ -60,6 +60,15 @@ def need_term(term):
     return term
 
 
+def is_term(value):
+    """Whether a value is a term as parameters are."""
+    try:
+        need_term(value)
+    except (BadTerm, TooGreat):
+        return False
+    return True
+
+
 def need_places(places):
     """An ascending tuple of places as in "rank"."""
     if not is_need(places):

@@ -67,10 +67,15 @@ def term_rule(term):
     return needs_of_term(term)
 
 
+def term_of_needs(needs):
+    """The term that tells some needs, place by place."""
+    return ("most", tuple([("least", tuple([("at", place) for place in need])) for need in needs]))
+
+
 def plain_term(rule):
     """The term that tells the needs of a rule, place by place."""
     need_rule(rule)
-    return ("most", tuple([("least", tuple([("at", place) for place in need])) for need in rule]))
+    return term_of_needs(rule)
 
 
 def need_few_times(term):

@@ -2,6 +2,8 @@
 
 import importlib
 import inspect
+import pathlib
+import re
 import unittest
 
 FILES = {
@@ -49,28 +51,83 @@ FILES = {
         holes_below(picture, level) picture_turned(picture) picture_cut(picture, low, high) higher_of(one, other)
         lower_of(one, other) level_stepped(rule, picture) level_steps(rule, picture, times) cleans(rule)
         flat_by(rule, picture, doom, counter)""",
+    "maps": """need_change(change) mapped_place(place, change) mapped_island(island, change)
+        mapped_point(point, change) mapped_rule(rule, change) mapped_direction(direction, change)
+        undone_change(change) change_behind(one, other) turns_of(rule) turned_to(one, other)""",
+    "tellings": """is_telling(telling, value) telling_rule(telling, value) telling_of(rule, telling)
+        retold(telling, value, into)""",
+    "texts": """island_text(island) rule_text(rule) term_text(term) read_island(text) read_rule(text)
+        read_term(text)""",
     "staying": """is_staying(rule) standing(rule) hold_of(rule) is_hold(rule, value) held(rule, island, hold)
         spreads_to(rule) filled(rule, island) is_filled(rule, island)""",
 }
 
 
+CLASSES = {
+    "house": ("House", """__init__(self, rule) names(self) island(self, name) living(self) age(self) do(self, deed)
+        follow(self, deeds) trial(self, deeds) undo(self) log(self) copy(self) __len__(self) __iter__(self)
+        __eq__(self, other)"""),
+    "page": ("Page", """__init__(self, text) all_true(self) named(self, name) __len__(self) __iter__(self)
+        __eq__(self, other) __str__(self)"""),
+}
+
+
+def calls(told):
+    """The pairs of the name and the parameters of each call that is told."""
+    return [line.strip().rstrip(")").split("(") for line in told.replace(")", ")\n").split("\n") if line.strip()]
+
+
 class Interface(unittest.TestCase):
+
+    def parameters(self, made, rest):
+        parameters = inspect.signature(made).parameters.values()
+        self.assertEqual(", ".join(p.name for p in parameters), rest, made)
+        for parameter in parameters:
+            self.assertIs(parameter.kind, inspect.Parameter.POSITIONAL_OR_KEYWORD)
+            self.assertIs(parameter.default, inspect.Parameter.empty)
 
     def test_each_function_stands_in_its_file_with_its_parameters(self):
         for name, told in FILES.items():
             module = importlib.import_module(f"allislands.{name}")
-            for line in told.replace(")", ")\n").split("\n"):
-                if not line.strip():
-                    continue
-                word, rest = line.strip().split("(")
+            for word, rest in calls(told):
                 made = getattr(module, word)
                 self.assertTrue(inspect.isfunction(made), word)
                 self.assertEqual(made.__module__, module.__name__, word)
-                parameters = inspect.signature(made).parameters.values()
-                self.assertEqual(", ".join(p.name for p in parameters) + ")", rest, word)
-                for parameter in parameters:
-                    self.assertIs(parameter.kind, inspect.Parameter.POSITIONAL_OR_KEYWORD)
-                    self.assertIs(parameter.default, inspect.Parameter.empty)
+                self.parameters(made, rest)
+
+    def test_each_class_stands_in_its_file_and_has_its_methods_itself(self):
+        for name, (word, told) in CLASSES.items():
+            module = importlib.import_module(f"allislands.{name}")
+            made = getattr(module, word)
+            self.assertTrue(inspect.isclass(made))
+            self.assertEqual((made.__module__, made.__bases__), (module.__name__, (object,)))
+            for method, rest in calls(told):
+                self.assertIn(method, vars(made))
+                self.parameters(vars(made)[method], rest)
+
+    def test_attributes_and_names_of_values(self):
+        from allislands.house import House
+        from allislands.maps import TURNS
+        from allislands.page import Page
+        from allislands.tellings import TELLINGS
+        self.assertEqual(House((((0, 0),),)).rule, (((0, 0),),))
+        self.assertEqual(Page("island A is none").rows, ())
+        self.assertTrue(isinstance(TURNS, tuple) and isinstance(TELLINGS, tuple))
+
+    def test_all_that_the_document_lists(self):
+        doc = pathlib.Path(__file__).resolve().parent.parent.parent / "shared" / "DOC.md"
+        if not doc.exists():
+            self.skipTest("the document is not beside the project")
+        text = doc.read_text(encoding="utf-8").split("# The interface", 1)[1]
+        found = {}
+        for part in text.split("## allislands/")[1:]:
+            file, rest = part.split(".py", 1)
+            found[file] = sorted(re.findall(r"`([a-z_]+\([a-z_, ]*\))`", rest))
+        errors = found.pop("errors", None)
+        self.assertEqual(errors, [])
+        for file, told in FILES.items():
+            self.assertEqual(found.pop(file), sorted(f"{word}({rest})" for word, rest in calls(told)), file)
+        self.assertEqual(found, {"house": [], "page": []})
 
 
 if __name__ == "__main__":

@@ -165,10 +165,35 @@ class Language(unittest.TestCase):
                 self.assertNotIn(word, set(dir(builtins)) | NOT_NAMES, name)
 
     def test_methods_of_builtin_values(self):
+        own = {method.name for where, node in self.each(ast.ClassDef) for method in node.body
+               if isinstance(method, ast.FunctionDef)}
         for where, node in self.each(ast.Call):
             if isinstance(node.func, ast.Attribute):
-                self.assertIn(node.func.attr, METHODS, where)
+                self.assertIn(node.func.attr, METHODS | own, where)
                 self.assertFalse(node.keywords, where)
+
+    def test_classes(self):
+        for where, node in self.each(ast.ClassDef):
+            methods = [method.name for method in node.body if isinstance(method, ast.FunctionDef)]
+            self.assertEqual(len(methods), len(set(methods)), where)
+            stored = {part.attr for part in ast.walk(node)
+                      if isinstance(part, ast.Attribute) and isinstance(part.ctx, ast.Store)}
+            self.assertFalse(stored & set(methods), where)
+            for name in stored | set(methods):
+                self.assertRegex(name, r"^(_?[a-z][a-z_]*|__(init|eq|str|len|iter)__)$", where)
+            for method in node.body[1:]:
+                self.assertIsInstance(method, ast.FunctionDef, where)
+        for where, node in self.each(ast.FunctionDef):
+            if node.name in ("__len__", "__iter__", "__eq__", "__str__"):
+                self.assertEqual(len(node.body), 1, where)
+                self.assertIsInstance(node.body[0], ast.Return, where)
+
+    def test_what_stands_at_module_level(self):
+        for name, tree in trees():
+            for node in tree.body:
+                if isinstance(node, ast.Assign):
+                    self.assertFalse([part for part in ast.walk(node.value) if isinstance(part, (ast.Name, ast.Call))],
+                                     f"{name}:{node.lineno}")
 
 
 if __name__ == "__main__":

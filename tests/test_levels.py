@@ -19,13 +19,16 @@ DOOM = ((1, 1), (-1, 0), (0, -1))
 WHOLE = box(20, 20)
 THIN = (((-1, 0), (1, 0)),)
 # Of a box of 20 by 20 it has more than 400 places on the way, nothing in the end.
-WIDE = (((-3, 0), (-3, 1), (3, 1)), ((-3, 1), (-3, 2), (1, -2)), ((0, -3), (3, -1)), ((1, -1), (3, -1)), ((1, 0), (2, 0)))
+WIDE = (((-3, 0), (-3, 1), (3, 1)), ((-3, 1), (-3, 2), (1, -2)), ((0, -3), (3, -1)), ((1, -1), (3, -1)),
+        ((1, 0), (2, 0)))
 # The first 6 needs alone have 3 ** 6 bars.
 BARRED = tuple(tuple((3 * k + j, k) for j in range(3)) for k in range(6))
-NO_PICTURES = ODD + ((0,), (0, (), ()), [0, ()], (0, []), (True, ()), (MOST + 1, ()), (-MOST - 1, ()), (None, ()), (0, None),
+NO_PICTURES = ODD + ((0,), (0, (), ()), [0, ()], (0, []), (True, ()), (MOST + 1, ()), (-MOST - 1, ()), (None, ()),
+                     (0, None),
                      (0, (((0, 0), 0),)), (0, (((0, 0), 1), ((0, 0), 2))), (0, (((0, 1), 1), ((0, 0), 1))),
                      (0, (((0, 0), 1), ((0, 0), 1))), (0, (((0, 0), MOST + 1),)), (0, (((0, 0), -MOST - 1),)),
-                     (0, (((BIG + 1, 0), 1),)), (0, (((0, -BIG - 1), 1),)), (0, (((0, 0), True),)), (1, (((0, True), 3),)),
+                     (0, (((BIG + 1, 0), 1),)), (0, (((0, -BIG - 1), 1),)), (0, (((0, 0), True),)),
+                     (1, (((0, True), 3),)),
                      (0, ([(0, 0), 1],)), (0, (([0, 0], 1),)), (0, (((0, 0), 1, 2),)), (0, (((0, 0),),)), (0, (None,)),
                      (0, (((0, 0), 1.0),)), (0, (((0, 0), "1"),)), (0, (((0, 0, 0), 1),)), (0.0, ()), (0, ((0, 0), 5)))
 
@@ -151,8 +154,10 @@ class Pictures(Case):
                 self.assertEqual(made[0], chosen(one[0], other[0]))
                 self.assertEqual(made, call(other, one))
                 for place in {p for p, n in one[1] + other[1]} | {(9, 9)}:
-                    self.assertEqual(plain_level(made, place), chosen(plain_level(one, place), plain_level(other, place)))
-            self.assertEqual(picture_turned(higher_of(one, other)), lower_of(picture_turned(one), picture_turned(other)))
+                    self.assertEqual(plain_level(made, place),
+                                     chosen(plain_level(one, place), plain_level(other, place)))
+            self.assertEqual(picture_turned(higher_of(one, other)),
+                             lower_of(picture_turned(one), picture_turned(other)))
 
     def test_more_than_400_changes(self):
         one = (0, tuple((place, 2) for place in WHOLE))
@@ -172,7 +177,8 @@ class Steps(Case):
 
     def test_examples(self):
         self.assertEqual(level_stepped(TWO, PICTURE), (0, (((0, 0), 3),)))
-        self.assertEqual(level_stepped(rule=LEFT, picture=PICTURE), (0, (((-1, 0), 5), ((-1, 1), 3), ((0, 0), 5), ((0, 1), 3))))
+        self.assertEqual(level_stepped(rule=LEFT, picture=PICTURE),
+                         (0, (((-1, 0), 5), ((-1, 1), 3), ((0, 0), 5), ((0, 1), 3))))
         self.assertEqual(level_stepped((((0, 0), (1, 0)),), PICTURE), (0, (((3, 4), -2), ((4, 4), -2))))
         self.assertEqual(level_steps(TWO, PICTURE, 1), (0, (((0, 0), 3),)))
         self.assertEqual(level_steps(rule=TWO, picture=PICTURE, times=2), FLAT)

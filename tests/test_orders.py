@@ -23,7 +23,8 @@ DOOM = ((-1, 0), (0, -1), (1, 1))
 RULES = (TWO, LEFT, UP)
 WIDE = tuple(((k, 0),) for k in range(8))
 HIGH = tuple(((0, k),) for k in range(8))
-NO_WORDS = ODD[:12] + ([0], [], (3,), (-1,), (True,), (False,), (None,), (0.0,), ("0",), (0,) * 61, (0, 1, 2, 3), ((0,),))
+NO_WORDS = ODD[:12] + ([0], [], (3,), (-1,), (True,), (False,), (None,), (0.0,), ("0",), (0,) * 61, (0, 1, 2, 3),
+                       ((0,),))
 NO_RULES = ((None, ()), ((), ()), ([TWO], ()), ((TWO,) * 7, ()), ({0: TWO}, ()), (7, ()), (TWO, (0,)), ((None,), (0,)),
             ((TWO, ()), (1,)), ((TWO, LEFT, LEFT[::-1]), (2,)), ((TWO, 7, None), (1,)), ((TWO, [((0, 0),)]), (1,)))
 
@@ -141,7 +142,8 @@ class Words(Case):
                     self.assertTrue(all(word_stepped(rules, one, i) == word_stepped(rules, other, i) for i in islands))
                 else:
                     needs = word_rule(rules, one) + word_rule(rules, other)
-                    self.assertTrue(any(plain_word(rules, one, set(n)) != plain_word(rules, other, set(n)) for n in needs))
+                    self.assertTrue(any(plain_word(rules, one, set(n)) != plain_word(rules, other,
+                                                                                     set(n)) for n in needs))
         self.assertEqual(kinds, {(True, True), (True, False), (False, False)})
 
     def test_which_refusal_comes_first(self):
@@ -197,7 +199,8 @@ class Speeds(Case):
         self.assertEqual(word_core((TWO, UP), (0, 1)), ())
         self.assertEqual(word_core(rules=(TWO, UP), word=(1,)), ((0, 1, 1),))
         self.assertEqual(word_core((LEFT, UP), (0, 1, 1, 0)), ((-2, 2, 1), (0, 2, 1)))
-        self.assertEqual(word_fan(rules=(LEFT, UP), word=(0, 1)), (((1, 0), 0), ((0, 1), 1), ((-1, 0), 1), ((0, -1), -1)))
+        self.assertEqual(word_fan(rules=(LEFT, UP), word=(0, 1)),
+                         (((1, 0), 0), ((0, 1), 1), ((-1, 0), 1), ((0, -1), -1)))
 
     def test_too_great(self):
         for call in (word_fan, word_core):

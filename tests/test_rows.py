@@ -182,7 +182,8 @@ class Rows(Case):
 
     def test_rows(self):
         sixty = tuple((2 * k, 2 * k) for k in range(60))
-        for row in ((), FULL, ((0, 0),), ((0, 0), (2, 2)), ((None, 5), (7, 9), (11, None)), ((None, -MOST), (MOST, None)),
+        for row in ((), FULL, ((0, 0),), ((0, 0), (2, 2)), ((None, 5), (7, 9), (11, None)),
+                    ((None, -MOST), (MOST, None)),
                     ((-MOST, MOST),), ((5, None),), ((None, 5),), sixty, ((None, -4),) + sixty[:58] + ((200, None),)):
             self.assertEqual(need_row(row), row)
             self.assertEqual(need_row(row=row), row)
