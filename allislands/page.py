@@ -11,7 +11,7 @@ from allislands.speeds import speed
 from allislands.staying import is_staying
 from allislands.terms import need_term
 from allislands.termwork import term_rule
-from allislands.words import check_words, needs_in, places_in, term_in, words_of
+from allislands.words import check_words, needs_of_words, places_of_words, term_of_words, words_of
 
 MOST_LINES = 200
 
@@ -31,15 +31,15 @@ def lines_of(text):
 def told_value(kind, words):
     """The rule, the term or the island that checked words tell."""
     if kind == "rule":
-        return need_rule(needs_in(words))
+        return need_rule(needs_of_words(words))
     if kind == "term":
-        return need_term(term_in(words))
-    return need_island(places_in(words))
+        return need_term(term_of_words(words))
+    return need_island(places_of_words(words))
 
 
 def told_direction(saying):
     """The direction of a saying of a speed."""
-    return places_in(saying[2:6])[0]
+    return places_of_words(saying[2:6])[0]
 
 
 def read_line(words, line, known):
@@ -102,7 +102,7 @@ class Page:
                 rows.append((line, is_so(words[1:], known) == (words[0] == "say")))
         self.rows = tuple(rows)
         self._known = known
-        self._lines = [" ".join(words) for words in lines if len(words) > 0]
+        self._lines = [" ".join(told) for told in lines if len(told) > 0]
 
     def all_true(self):
         """Whether all sayings are as they are told."""

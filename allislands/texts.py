@@ -4,7 +4,7 @@ from allislands.errors import BadText
 from allislands.islands import need_island
 from allislands.rules import need_rule
 from allislands.terms import need_term
-from allislands.words import check_words, needs_in, places_in, term_in, words_of
+from allislands.words import check_words, needs_of_words, places_of_words, term_of_words, words_of
 
 
 def words_of_place(place):
@@ -60,14 +60,14 @@ def read_words(text, form):
 
 def read_island(text):
     """The island that a text tells."""
-    return need_island(places_in(read_words(text, "an island")))
+    return need_island(places_of_words(read_words(text, "an island")))
 
 
 def read_rule(text):
     """The rule that a text tells."""
-    return need_rule(needs_in(read_words(text, "a rule")))
+    return need_rule(needs_of_words(read_words(text, "a rule")))
 
 
 def read_term(text):
     """The term that a text tells."""
-    return need_term(term_in(read_words(text, "a term")))
+    return need_term(term_of_words(read_words(text, "a term")))

@@ -90,7 +90,7 @@ def is_name(word):
     return True
 
 
-def is_told(symbol, word, kinds):
+def is_word_for(symbol, word, kinds):
     """Whether a word is of a kind of words, or the very word; `kinds` tells of what kind names are."""
     if symbol == "a number":
         return is_number_word(word)
@@ -110,7 +110,7 @@ def form_of(symbol, word, kinds):
     return FORMS.get((symbol, word))
 
 
-def goes_on(ahead, word, kinds):
+def may_come(ahead, word, kinds):
     """Whether a word may come next; takes from what is still to come what it stands for."""
     while len(ahead) > 0:
         symbol = ahead.pop()
@@ -118,7 +118,7 @@ def goes_on(ahead, word, kinds):
         if form is not None:
             ahead.extend(form[::-1])
         elif symbol not in MAY_LACK:
-            return is_told(symbol, word, kinds)
+            return is_word_for(symbol, word, kinds)
     return False
 
 
@@ -128,24 +128,24 @@ def check_words(words, form, line, kinds):
     for at, word in enumerate(words):
         if at == MOST_WORDS:
             raise TooGreat(MOST_WORDS)
-        if not goes_on(ahead, word, kinds):
+        if not may_come(ahead, word, kinds):
             raise BadText(line, at)
     for symbol in ahead:
         if symbol not in MAY_LACK:
             raise BadText(line, len(words))
 
 
-def places_in(words):
+def places_of_words(words):
     """The places that checked words tell, in their order."""
     numbers = [int(word) for word in words if is_number_word(word)]
     return tuple([(numbers[at], numbers[at + 1]) for at in range(0, len(numbers), 2)])
 
 
-def needs_in(words):
+def needs_of_words(words):
     """The needs that checked words tell, in their order."""
     ends = [at for at, word in enumerate(words) if word == ";"] + [len(words)]
     starts = [0] + [at + 1 for at in ends[:-1]]
-    return tuple([places_in(words[start:end]) for start, end in zip(starts, ends)])
+    return tuple([places_of_words(words[start:end]) for start, end in zip(starts, ends)])
 
 
 def taken(values):
@@ -157,7 +157,7 @@ def taken(values):
     return tuple(found)
 
 
-def put_together(word, values):
+def put_behind(word, values):
     """Puts behind some values what a word makes of those put last."""
     if word in ("(", "then", "again", "rank"):
         first, second = values.pop(), values.pop()
@@ -172,20 +172,11 @@ def put_together(word, values):
         values.append((word, values.pop()))
 
 
-def term_in(words):
+def term_of_words(words):
     """The term that checked words tell."""
     # From the last word on all parts are there as soon as the word comes that puts them together;
     # without recursion, since a text may tell terms that lie thousands deep.
     values = []
     for word in words[::-1]:
-        put_together(word, values)
+        put_behind(word, values)
     return values[0]
-
-
-def value_in(kind, words):
-    """What checked words tell: a rule, a term or an island."""
-    if kind == "rule":
-        return needs_in(words)
-    if kind == "term":
-        return term_in(words)
-    return places_in(words)

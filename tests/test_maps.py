@@ -234,6 +234,7 @@ class Turns(Case):
         for rule in (None, (), [((0, 0),)]):
             self.refused(BadRule(()), turns_of, rule)
             self.refused(BadRule(()), turned_to, rule, None)
+            self.refused(BadRule(()), turned_to, rule, TWO)
             self.refused(BadRule(()), turned_to, TWO, rule)
         self.assertEqual(mapped_island(box(2, 2), LEFTWARD), ((-1, 0), (-1, 1), (0, 0), (0, 1)))
 

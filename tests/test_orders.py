@@ -266,6 +266,10 @@ class CommonDooms(Case):
         self.assertEqual(common_doom((THIN,), 1), ((-1, -1), (0, 1), (1, 0)))
         tall = tuple(((-1, k), (1, k)) for k in range(-3, 4))
         self.assertEqual(common_doom((THIN, tall), 1), ((-1, 0), (1, 0)))
+        # Its directions are unlike: of size 2 three of them with one twice are none.
+        self.assertEqual(common_doom((tall,), 2), ((-2, 0), (2, 0)))
+        self.assertIs(is_common_doom((tall,), ((-2, 0), (1, 0), (1, 0))), True)
+        self.assertEqual(common_doom((tuple(((k, -1), (k, 1)) for k in range(-3, 4)),), 1), ((0, -1), (0, 1)))
 
     def test_size_4(self):
         # Slow only in directions with great numbers.
